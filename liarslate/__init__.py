@@ -1,0 +1,1 @@
+"""Liarslate: written programs of several hands, run among liars all the same."""

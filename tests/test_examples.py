@@ -1,0 +1,32 @@
+"""The examples of the document as they stand there."""
+
+import doctest
+import os
+import unittest
+
+HERE = os.path.dirname(os.path.abspath(__file__))
+
+
+class Examples(unittest.TestCase):
+    def holds(self, section, many):
+        name = "examples_section_%d.txt" % section
+        failed, attempted = doctest.testfile(os.path.join(HERE, name), module_relative=False)
+        self.assertEqual((failed, attempted), (0, many))
+
+    def test_readme(self):
+        name = os.path.join(os.path.dirname(HERE), "README.md")
+        failed, attempted = doctest.testfile(name, module_relative=False)
+        self.assertEqual((failed, attempted), (0, 13))
+
+    def test_section_4(self):
+        self.holds(4, 10)
+
+    def test_section_5(self):
+        self.holds(5, 14)
+
+    def test_section_6(self):
+        self.holds(6, 11)
+
+
+if __name__ == "__main__":
+    unittest.main()

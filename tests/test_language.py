@@ -1,0 +1,123 @@
+"""What of the language's rules can be read off the files: L1, L2, L5, L8, L10, L14 and L15."""
+
+import ast
+import builtins
+import os
+import unittest
+
+ROOT = os.path.dirname(os.path.dirname(os.path.abspath(__file__)))
+PACKAGE = os.path.join(ROOT, "liarslate")
+LIBRARY = {
+    "heapq": {"heappush", "heappop", "heapify", "heapreplace", "heappushpop"},
+    "math": {"gcd", "lcm", "isqrt", "comb", "perm", "factorial"},
+    "itertools": {"product", "combinations", "permutations", "chain", "accumulate", "pairwise", "islice", "zip_longest"},
+    "collections": {"defaultdict", "deque"},
+}
+METHODS = {"__init__", "__eq__", "__repr__", "__str__", "__len__", "__enter__", "__exit__", "__call__", "__contains__"}
+# What L8 lets be called, and map (L23), less what a later rule takes away again.
+CALLED = set(
+    "len range enumerate zip min max sum abs sorted reversed int str bool list tuple dict set isinstance ord repr any"
+    " all divmod pow map iter next Exception ValueError TypeError KeyError IndexError LookupError RuntimeError".split()
+)
+WHOLE = ("any", "all", "min", "max", "sum", "sorted")
+# Doctests leave a builtin _ behind, which is none of Python's own.
+BUILTINS = set(dir(builtins)) - {"_"}
+REFUSED = (ast.AsyncFunctionDef, ast.AsyncFor, ast.AsyncWith, ast.Await, ast.Div, ast.Import)
+
+
+def files():
+    """(name, text) of each file of the package."""
+    for name in sorted(os.listdir(PACKAGE)):
+        if name != "__pycache__":
+            with open(os.path.join(PACKAGE, name), encoding="ascii", newline="") as file:
+                yield name, file.read()
+
+
+def trees():
+    """(name, tree) of each file of the package."""
+    for name, text in files():
+        yield name, ast.parse(text)
+
+
+def functions(tree):
+    return [node for node in ast.walk(tree) if isinstance(node, ast.FunctionDef)]
+
+
+class Language(unittest.TestCase):
+    def test_only_plain_files(self):
+        names = [name for name, _ in files()]
+        self.assertIn("__init__.py", names)
+        for name in names:
+            self.assertRegex(name, r"\A[a-z_]+\.py\Z")
+
+    def test_sizes(self):
+        for name, text in files():
+            lines = text.splitlines()
+            self.assertLessEqual(len(lines), 399, name)
+            for line in lines:
+                self.assertLessEqual(len(line), 120, name)
+        for name, tree in trees():
+            for node in functions(tree):
+                self.assertLessEqual(node.end_lineno - node.lineno + 1, 40, (name, node.name))
+
+    def test_signs(self):
+        for name, text in files():
+            self.assertTrue(all(sign == "\n" or " " <= sign <= "~" for sign in text), name)
+            for node in ast.walk(ast.parse(text)):
+                if isinstance(node, ast.Constant) and isinstance(node.value, str):
+                    self.assertNotIn("%", node.value, name)
+
+    def test_imports(self):
+        for name, tree in trees():
+            for node in ast.walk(tree):
+                if isinstance(node, ast.ImportFrom):
+                    self.assertIn(node, tree.body, name)
+                    told = {alias.name for alias in node.names}
+                    if node.module not in LIBRARY:
+                        self.assertTrue(node.module.startswith("liarslate."), name)
+                    else:
+                        self.assertLessEqual(told, LIBRARY[node.module], name)
+
+    def test_imports_go_one_way(self):
+        wants = {}
+        for name, tree in trees():
+            told = [node.module for node in ast.walk(tree) if isinstance(node, ast.ImportFrom)]
+            wants["liarslate." + name[:-3]] = {word for word in told if word.startswith("liarslate.")}
+        while wants:
+            free = [name for name in wants if not wants[name] & set(wants)]
+            self.assertTrue(free, wants)
+            for name in free:
+                del wants[name]
+
+    def test_no_builtin_is_given_another_meaning(self):
+        for name, tree in trees():
+            told = [node.id for node in ast.walk(tree) if isinstance(node, ast.Name) and isinstance(node.ctx, ast.Store)]
+            told += [node.arg for node in ast.walk(tree) if isinstance(node, ast.arg)]
+            told += [node.name for node in tree.body if isinstance(node, (ast.FunctionDef, ast.ClassDef))]
+            self.assertEqual([word for word in told if word in BUILTINS], [], name)
+
+    def test_called_builtins(self):
+        for name, tree in trees():
+            for node in ast.walk(tree):
+                if isinstance(node, ast.Call) and isinstance(node.func, ast.Name) and node.func.id in BUILTINS:
+                    self.assertIn(node.func.id, CALLED, name)
+                    if node.func.id in WHOLE:
+                        self.assertFalse([one for one in node.args if isinstance(one, ast.GeneratorExp)], name)
+
+    def test_double_underscore_methods(self):
+        for name, tree in trees():
+            for node in functions(tree):
+                if node.name.startswith("__"):
+                    self.assertIn(node.name, METHODS, name)
+
+    def test_no_refused_forms(self):
+        for name, tree in trees():
+            for node in ast.walk(tree):
+                self.assertNotIsInstance(node, REFUSED, (name, getattr(node, "lineno", 0)))
+                self.assertFalse(isinstance(node, ast.Constant) and isinstance(node.value, (float, complex)), name)
+                if isinstance(node, ast.Compare) and isinstance(node.ops[0], (ast.Is, ast.IsNot)):
+                    self.assertIn(ast.unparse(node.comparators[0]), ("None", "True", "False"), name)
+
+
+if __name__ == "__main__":
+    unittest.main()
