@@ -133,7 +133,8 @@ class Reckoning(Case):
     def test_all_rounds(self):
         """One hand alone goes through all rounds, and sends no letter behind the last one."""
         for rounds in (1, 2, 3, 4):
-            program = Program("\n".join(["inputs 0 9", "cells x"] + ["round x\nput x plus x most"] * rounds + ["say turn x"]))
+            lines = ["inputs 0 9", "cells x"] + ["round x\nput x plus x most"] * rounds + ["say turn x"]
+            program = Program("\n".join(lines))
             calm = ((3, ((0,),) * rounds),)
             told = tuple(3 * 2**at for at in range(rounds))
             self.assertEqual(values(program, (1, 0), calm), (told,))
@@ -148,7 +149,8 @@ class Reckoning(Case):
         calm = ((3, ((0, 1, 2), (0, 1, 2))), (3, ((0, 1, 3),)), (3, ((1, 2, 3),)), (3, ()))
         self.assertEqual(
             letters(SMALL, (4, 1), calm),
-            ((0, 1, 3, 3), (0, 2, 9, (0, 1, 2)), (1, 1, 3, 3), (1, 2, 10, (0, 1, 3)), (2, 1, 3, 3), (2, 2, 11, (1, 2, 3)), (3, 1, 3, 3)),
+            ((0, 1, 3, 3), (0, 2, 9, (0, 1, 2)), (1, 1, 3, 3), (1, 2, 10, (0, 1, 3)), (2, 1, 3, 3),
+            (2, 2, 11, (1, 2, 3)), (3, 1, 3, 3)),
         )
         self.assertEqual(says(SMALL, (4, 1), calm), (30, None, None, None))
 
@@ -163,7 +165,8 @@ class Within(Case):
                 for at in range(1, many_letters(program, calm, hand) + 1):
                     told = least_of([one for one in runs if many_letters(program, one, hand) >= at])
                     self.assertEqual(least(program, house, calm, hand, at), told)
-                    self.assertEqual(letter_of(program, house, told, hand, at), letter_of(program, house, calm, hand, at))
+                    self.assertEqual(letter_of(program, house, told, hand, at),
+                        letter_of(program, house, calm, hand, at))
                 told = least_of([one for one in runs if one[hand] == calm[hand]])
                 self.assertEqual(knows(program, house, calm, hand), told)
 
@@ -192,7 +195,8 @@ class Within(Case):
     def test_no_letter(self):
         calm = ((3, ((0, 1, 2), (0, 1, 2))), (3, ((0, 1, 2),)), (3, ((0, 1, 2),)), None)
         for call in (letter_of, least):
-            for hand, at in ((0, 0), (0, 3), (1, 3), (3, 1), (4, 1), (-1, 1), (None, 1), (0, None), ("0", "1"), ((), []), (True, 1), (1, True),
+            for hand, at in ((0, 0), (0, 3), (1, 3), (3, 1), (4, 1), (-1, 1), (None, 1), (0, None), ("0", "1"),
+                ((), []), (True, 1), (1, True),
                              (0, (1,)), ({}, {}), (False, False)):
                 self.refuses(NoLetter, (hand, at), call, SMALL, (4, 1), calm, hand, at)
             for hand, at in ((0, 1), (0, 2), (1, 2), (2, 2)):
@@ -213,8 +217,10 @@ class Growing(Case):
         entry, house = (0, ((0, 1, 2),)), (4, 1)
         base = (entry, (0, ()), (0, ()), (0, ()))
         for other, told in (
-            (base, True), (((0, ((0, 1, 3),)),) + base[1:], False), (((1, ((0, 1, 2),)),) + base[1:], False), (((0, ()),) + base[1:], False),
-            (base[:1] + ((1, ()),) + base[2:], False), (base[:3] + (None,), False), (base[:1] + ((0, ((1, 2, 3),)),) + base[2:], True),
+            (base, True), (((0, ((0, 1, 3),)),) + base[1:], False), (((1, ((0, 1, 2),)),) + base[1:], False),
+            (((0, ()),) + base[1:], False),
+            (base[:1] + ((1, ()),) + base[2:], False), (base[:3] + (None,), False),
+            (base[:1] + ((0, ((1, 2, 3),)),) + base[2:], True),
         ):
             self.assertIs(grown(FLAT, house, base, other), told, other)
         self.assertIs(grown(FLAT, house, nobody(house), base), True)
@@ -236,7 +242,8 @@ class Growing(Case):
         base = ((0, ((0, 1, 2),)), (0, ()), (0, ()), (0, ()))
         for other, hand in (
             (((0, ((0, 1, 3),)),) + base[1:], 0), (((1, ((0, 1, 2),)),) + base[1:], 0), (((1, ()),) + base[1:], 0),
-            (base[:1] + ((1, ()), (1, ()), (1, ())), 1), (base[:2] + ((1, ((0, 1, 2),)), None), 2), ((None,) * 3 + ((1, ()),), 3),
+            (base[:1] + ((1, ()), (1, ()), (1, ())), 1), (base[:2] + ((1, ((0, 1, 2),)), None), 2),
+            ((None,) * 3 + ((1, ()),), 3),
         ):
             self.refuses(Quarrel, hand, joined, FLAT, house, base, other)
             self.refuses(Quarrel, hand, joined, FLAT, house, other, base)
@@ -317,7 +324,8 @@ class Steps(Case):
     def test_all_runs_are_come_to_by_steps(self):
         one = Program("inputs 0 0\ncells x\nround x\nsay x")
         two = Program("inputs 0 0\ncells x\nround x\nround x\nsay x")
-        for program, house in ((one, (4, 1)), (FLAT, (3, 0)), (SMALL, (3, 0)), (two, (4, 1)), (FLAT, (1, 0)), (SMALL, (2, 0))):
+        for program, house in ((one, (4, 1)), (FLAT, (3, 0)), (SMALL, (3, 0)), (two, (4, 1)), (FLAT, (1, 0)),
+            (SMALL, (2, 0))):
             self.assertEqual(self.all_runs(program, house), self.reached(program, house))
 
     def test_a_letter_has_one_value_in_all_runs_that_have_its_least_one(self):

@@ -37,10 +37,14 @@ def with_entry(entry, hand=0):
 WRONG = [value for value in odd_values()] + [
     5, CALM[:3], CALM + (None,), list(CALM), (None,) * 3, (None,) * 5, [None] * 4, {0: None}, CALM[0],
 ] + [with_entry(entry) for entry in (
-    5, (), (0,), [0, ()], (0, [], ()), (0, []), (0, None), (None, ()), (True, ()), (False, ()), (-1, ()), (10, ()), ("0", ()), ((0,), ()),
-    (0, (), ()), (0, ((0, 1),)), (0, ((0, 1, 2, 3),)), (0, ((1, 2, 3),)), (0, ([0, 1, 2],)), (0, ((0, 2, 1),)), (0, ((0, 1, 1),)),
-    (0, ((0, 0, 1),)), (0, ((0, 1, 4),)), (0, ((-1, 0, 1),)), (0, ((0, True, 2),)), (0, ((False, 1, 2),)), (0, (0, 1, 2)), (0, "012"),
-    (0, (None,)), (0, ((0, 1, 2), ())), (0, ((0, 1, 2), (0, 1, 2))), (0, ((0, 1, 2), (0, 2, 3))), (0, [(0, 1, 2)]), False, True, "",
+    5, (), (0,), [0, ()], (0, [], ()), (0, []), (0, None), (None, ()), (True, ()), (False, ()), (-1, ()), (10, ()),
+    ("0", ()), ((0,), ()),
+    (0, (), ()), (0, ((0, 1),)), (0, ((0, 1, 2, 3),)), (0, ((1, 2, 3),)), (0, ([0, 1, 2],)), (0, ((0, 2, 1),)),
+    (0, ((0, 1, 1),)),
+    (0, ((0, 0, 1),)), (0, ((0, 1, 4),)), (0, ((-1, 0, 1),)), (0, ((0, True, 2),)), (0, ((False, 1, 2),)),
+    (0, (0, 1, 2)), (0, "012"),
+    (0, (None,)), (0, ((0, 1, 2), ())), (0, ((0, 1, 2), (0, 1, 2))), (0, ((0, 1, 2), (0, 2, 3))), (0, [(0, 1, 2)]),
+    False, True, "",
     (0, ((0, 1, 2),) * 3), {}, ({}, ()), (0, {}), (0, ({},)),
 )] + [
     # Somebody was heard who had not sent this.
@@ -61,7 +65,8 @@ class Shapes(Case):
         base = ((0, ()),) * 4
         for hand in range(4):
             lot = tuple(other for other in range(4) if other != hand)
-            for entry, told in (((0, ()), True), (None, True), ((0, (lot,)), False), ((True, ()), False), ((10, ()), False)):
+            for entry, told in (((0, ()), True), (None, True), ((0, (lot,)), False), ((True, ()), False),
+                ((10, ()), False)):
                 value = base[:hand] + (entry,) + base[hand + 1:]
                 self.assertIs(calms.is_calm(PROGRAM, HOUSE, value), told)
 
@@ -101,7 +106,8 @@ class Refusals(Case):
             call(*good)
             wrong = [value for value in odd_values() if not isinstance(value, Program)] + [HALVES, 0]
             self.refuses_each(NoProgram, call, wrong, good, 0)
-            self.refuses_each(BadHouse, call, odd_values() + [4, [4, 1], (4, True), (3, 1), (8, 1), (6, 2), (0, 0), (4, 1, 1)], good, 1)
+            self.refuses_each(BadHouse, call,
+                odd_values() + [4, [4, 1], (4, True), (3, 1), (8, 1), (6, 2), (0, 0), (4, 1, 1)], good, 1)
 
     def test_calms(self):
         for name in CALLS:
@@ -120,7 +126,8 @@ class Refusals(Case):
     def test_lots(self):
         call, good = self.call("hears")
         wrong = odd_values() + [
-            5, [0, 1, 3], (0, 1), (0, 1, 2, 3), (0, 2, 3), (1, 0, 3), (0, 1, 1), (0, 1, 4), (0, True, 3), (False, 1, 3), ((0, 1, 3),),
+            5, [0, 1, 3], (0, 1), (0, 1, 2, 3), (0, 2, 3), (1, 0, 3), (0, 1, 1), (0, 1, 4), (0, True, 3),
+            (False, 1, 3), ((0, 1, 3),),
             ("0", "1", "3"), (0, 1, None), "013", (0, 1, 3, 3), (-1, 1, 3),
         ]
         self.refuses_each(BadLot, call, wrong, good, 4)

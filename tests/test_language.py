@@ -10,7 +10,9 @@ PACKAGE = os.path.join(ROOT, "liarslate")
 LIBRARY = {
     "heapq": {"heappush", "heappop", "heapify", "heapreplace", "heappushpop"},
     "math": {"gcd", "lcm", "isqrt", "comb", "perm", "factorial"},
-    "itertools": {"product", "combinations", "permutations", "chain", "accumulate", "pairwise", "islice", "zip_longest"},
+    "itertools": {
+        "product", "combinations", "permutations", "chain", "accumulate", "pairwise", "islice", "zip_longest",
+    },
     "collections": {"defaultdict", "deque"},
 }
 METHODS = {"__init__", "__eq__", "__repr__", "__str__", "__len__", "__enter__", "__exit__", "__call__", "__contains__"}
@@ -91,7 +93,8 @@ class Language(unittest.TestCase):
 
     def test_no_builtin_is_given_another_meaning(self):
         for name, tree in trees():
-            told = [node.id for node in ast.walk(tree) if isinstance(node, ast.Name) and isinstance(node.ctx, ast.Store)]
+            named = [node for node in ast.walk(tree) if isinstance(node, ast.Name)]
+            told = [node.id for node in named if isinstance(node.ctx, ast.Store)]
             told += [node.arg for node in ast.walk(tree) if isinstance(node, ast.arg)]
             told += [node.name for node in tree.body if isinstance(node, (ast.FunctionDef, ast.ClassDef))]
             self.assertEqual([word for word in told if word in BUILTINS], [], name)

@@ -96,8 +96,8 @@ def model_state(model):
             told, echoes, promises = model.kept(hand)
             heard.append((told, tuple(sorted(echoes.items())), tuple(sorted(promises.items()))))
     did = [tuple(hand.get(word) for hand in model.did) for word in ("echo", "promise", "take")]
-    told = (model.n, model.counts, model.liars, model.first, tuple(model.slips), tuple(model.log), len(model.log), heard)
-    return told + tuple(did)
+    told = (model.n, model.counts, model.liars, model.first, tuple(model.slips), tuple(model.log), len(model.log))
+    return told + (heard,) + tuple(did)
 
 
 def random_start(chance, n=None, counts=None, many=None):

@@ -27,7 +27,8 @@ class Making(Case):
         for counts in ((1, 1, 1), (20, 20, 20), (1, 20, 7)):
             self.assertEqual(Spread(4, counts, (), 0, 5).counts, counts)
         wrong = odd_values() + [
-            3, (3, 2), (3, 2, 3, 1), [3, 2, 3], (0, 1, 1), (1, 0, 1), (1, 1, 0), (21, 1, 1), (1, 21, 1), (1, 1, 21), (True, 1, 1),
+            3, (3, 2), (3, 2, 3, 1), [3, 2, 3], (0, 1, 1), (1, 0, 1), (1, 1, 0), (21, 1, 1), (1, 21, 1), (1, 1, 21),
+            (True, 1, 1),
             (1, True, 1), (1, 1, True), (1, None, 1), ("1", 1, 1), (-1, 1, 1), ((1, 1, 1),), (1, 1, (1,)),
         ]
         self.refuses_each(BadCounts, Spread, wrong, GOOD, 1)
@@ -39,7 +40,8 @@ class Making(Case):
                 self.assertEqual(Spread(n, (1, 1, 1), liars, 0, 5).liars, liars)
             self.refuses(BadLiars, tuple(range(n)), Spread, n, (1, 1, 1), tuple(range(n)), 0, None)
         wrong = [value for value in odd_values() if value not in ((), (0,))] + [
-            3, [3], [], (4,), (-1,), (3, 1), (1, 1), (True,), (False, 3), (0, True), (1, None), ("3",), ((3,),), (0, 1, 2, 3), {3: 3}, "3",
+            3, [3], [], (4,), (-1,), (3, 1), (1, 1), (True,), (False, 3), (0, True), (1, None), ("3",), ((3,),),
+            (0, 1, 2, 3), {3: 3}, "3",
         ]
         self.refuses_each(BadLiars, Spread, wrong, GOOD, 2)
 
@@ -69,7 +71,10 @@ class Making(Case):
         self.assertEqual(usual(n=3, t=0), (2, 1, 1))
 
     def test_sequence(self):
-        wrongs = [(0, True, BadNumber, True), (1, [3, 2, 3], BadCounts, [3, 2, 3]), (2, (4,), BadLiars, (4,)), (3, 4, BadHand, 4)]
+        wrongs = [
+            (0, True, BadNumber, True), (1, [3, 2, 3], BadCounts, [3, 2, 3]), (2, (4,), BadLiars, (4,)),
+            (3, 4, BadHand, 4),
+        ]
         self.refuses_in_sequence(Spread, GOOD, wrongs + [(4, 100, BadValue, 100)])
         self.refuses_in_sequence(Spread, LIAR, wrongs + [(4, 5, BadValue, 5)])
         self.refuses_in_sequence(usual, [4, 1], [(0, 13, BadNumber, 13), (1, 4, BadStops, 4)])
@@ -107,11 +112,14 @@ class Deeds(Case):
         good = [1, 2, "echo", 7]
         self.refuses_each(BadLiar, self.spread.lie, odd_values() + [0, 2, 3, 5, -1], good, 0)
         self.refuses_each(BadHand, self.spread.lie, odd_values() + [1, 4, 5, -1], good, 1)
-        kinds = [value for value in odd_values() if value != "said"] + [0, "Said", "taken", "shown", "echoes", ("said",), b"said"]
+        kinds = [value for value in odd_values() if value != "said"]
+        kinds += [0, "Said", "taken", "shown", "echoes", ("said",), b"said"]
         self.refuses_each(BadKind, self.spread.lie, kinds, good, 2)
         self.refuses_each(BadValue, self.spread.lie, odd_values() + [-1, 100, 1000], good, 3)
         twin = self.spread.copy()
-        wrongs = [(0, True, BadLiar, True), (1, 4, BadHand, 4), (2, ["echo"], BadKind, ["echo"]), (3, 100, BadValue, 100)]
+        wrongs = [
+            (0, True, BadLiar, True), (1, 4, BadHand, 4), (2, ["echo"], BadKind, ["echo"]), (3, 100, BadValue, 100),
+        ]
         self.refuses_in_sequence(twin.lie, good, wrongs)
         self.assertEqual(twin.log[-1], ("lie", 1, 2, "echo", 7))
         for kind in ("said", "echo", "promise"):
@@ -132,7 +140,8 @@ class Deeds(Case):
 
     def test_results_are_tuples(self):
         told = self.spread
-        for value in (told.under_way, told.echoes, told.promises, told.takings, told.log, told.counts, told.liars, told.heard(2)):
+        for value in (told.under_way, told.echoes, told.promises, told.takings, told.log, told.counts, told.liars,
+            told.heard(2)):
             self.assertIsInstance(value, tuple)
         for row in told.under_way + told.log + told.heard(2)[1:]:
             self.assertIsInstance(row, tuple)
@@ -149,7 +158,8 @@ class Equality(Case):
         self.assertTrue(base == Spread(5, (3, 2, 3), (4,), 0, 5))
         self.assertFalse(base != Spread(5, (3, 2, 3), (4,), 0, 5))
         for other in (
-            Spread(6, (3, 2, 3), (4,), 0, 5), Spread(5, (3, 2, 4), (4,), 0, 5), Spread(5, (3, 2, 3), (3,), 0, 5), Spread(5, (3, 2, 3), (), 0, 5),
+            Spread(6, (3, 2, 3), (4,), 0, 5), Spread(5, (3, 2, 4), (4,), 0, 5), Spread(5, (3, 2, 3), (3,), 0, 5),
+            Spread(5, (3, 2, 3), (), 0, 5),
             Spread(5, (3, 2, 3), (4,), 1, 5), Spread(5, (3, 2, 3), (4,), 0, 6), Spread(5, (3, 2, 3), (4,), 4, None),
         ):
             self.assertFalse(base == other)
@@ -186,8 +196,10 @@ class Equality(Case):
 
     def test_other_operators(self):
         spread = Spread(*GOOD)
-        for deed in (lambda: spread < spread, lambda: spread + spread, lambda: 5 in spread, lambda: spread[0], lambda: -spread,
-                     lambda: list(spread), lambda: spread | spread):
+        for deed in (
+            lambda: spread < spread, lambda: spread + spread, lambda: 5 in spread, lambda: spread[0], lambda: -spread,
+            lambda: list(spread), lambda: spread | spread,
+        ):
             with self.assertRaises(TypeError):
                 deed()
 

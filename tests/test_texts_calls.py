@@ -14,7 +14,8 @@ SENT = [PROGRAM, HOUSE, 1, 1, (5,)]
 LATER = [PROGRAM, HOUSE, 1, 1, (5,), HEARD]
 SAID = [PROGRAM, HOUSE, 1, (5,)]
 BAD_HOUSES = odd_values() + [
-    4, (4,), (4, 1, 0), [4, 1], (4, True), (True, 0), (1, False), (0, 0), (-1, 0), (8, 0), (8, 2), (1, -1), (3, 1), (6, 2), (2, 1),
+    4, (4,), (4, 1, 0), [4, 1], (4, True), (True, 0), (1, False), (0, 0), (-1, 0), (8, 0), (8, 2), (1, -1), (3, 1),
+    (6, 2), (2, 1),
     (7, 3), (10, 3), (1, 1), (4, None), ("4", 1), (4, "1"), ((4,), 1),
 ]
 
@@ -22,7 +23,8 @@ BAD_HOUSES = odd_values() + [
 class Refusals(Case):
     def test_no_program(self):
         wrong = [value for value in odd_values() if not isinstance(value, Program)] + [0, 5, HALVES, (PROGRAM,)]
-        for call, good in ((input_values, [PROGRAM]), (begun, [PROGRAM, 3]), (sent, SENT), (later, LATER), (said, SAID)):
+        for call, good in ((input_values, [PROGRAM]), (begun, [PROGRAM, 3]), (sent, SENT), (later, LATER),
+            (said, SAID)):
             for value in wrong:
                 self.refuses(NoProgram, value, call, value, *good[1:])
 
@@ -65,11 +67,16 @@ class Refusals(Case):
 
     def test_heard(self):
         wrong = odd_values() + [
-            HEARD[:2], HEARD + ((4, 1),), ((0, 1), (1, 1), (2, 1), (3, 1)), list(HEARD), HEARD[::-1], ((1, 1), (0, 1), (2, 1)),
-            ((0, 1), (1, 1), (1, 1)), ((0, 1), (0, 2), (1, 1)), ((0, 1), (2, 1), (3, 1)), ((0, 1), (1, 1), (4, 1)), ((-1, 1), (0, 1), (1, 1)),
-            ((0, 1), (1, True), (3, 1)), ((0, 1), (True, 1), (3, 1)), ((False, 1), (1, 1), (3, 1)), ((0, 1), (1, None), (3, 1)),
-            ((0, 1), (1, 10000), (3, 1)), ((0, 1), (1, -10000), (3, 1)), ((0, 1), [1, 1], (3, 1)), ((0, 1), (1, 1, 1), (3, 1)),
-            ((0, 1), (1,), (3, 1)), (0, 1, 3), ((0, 1), 1, (3, 1)), ((0, 1), None, (3, 1)), ((0, "1"), (1, 1), (3, 1)), 7,
+            HEARD[:2], HEARD + ((4, 1),), ((0, 1), (1, 1), (2, 1), (3, 1)), list(HEARD), HEARD[::-1],
+            ((1, 1), (0, 1), (2, 1)),
+            ((0, 1), (1, 1), (1, 1)), ((0, 1), (0, 2), (1, 1)), ((0, 1), (2, 1), (3, 1)), ((0, 1), (1, 1), (4, 1)),
+            ((-1, 1), (0, 1), (1, 1)),
+            ((0, 1), (1, True), (3, 1)), ((0, 1), (True, 1), (3, 1)), ((False, 1), (1, 1), (3, 1)),
+            ((0, 1), (1, None), (3, 1)),
+            ((0, 1), (1, 10000), (3, 1)), ((0, 1), (1, -10000), (3, 1)), ((0, 1), [1, 1], (3, 1)),
+            ((0, 1), (1, 1, 1), (3, 1)),
+            ((0, 1), (1,), (3, 1)), (0, 1, 3), ((0, 1), 1, (3, 1)), ((0, 1), None, (3, 1)), ((0, "1"), (1, 1), (3, 1)),
+            7,
         ]
         self.refuses_each(BadHeard, later, wrong, LATER, 5)
         for heard in (((0, 1), (1, 1), (2, 1)), ((0, -9999), (1, 9999), (3, 0)), ((1, 1), (2, 1), (3, 1))):
@@ -85,7 +92,8 @@ class Refusals(Case):
             self.refuses(BadInput, value, begun, TWO, value)
 
     def test_sequence(self):
-        house, hand, at, cells = ((1, [4, 1], BadHouse, [4, 1]), (2, 4, BadHand, 4), (3, True, BadRound, True), (4, [5], BadCells, [5]))
+        house, hand = (1, [4, 1], BadHouse, [4, 1]), (2, 4, BadHand, 4)
+        at, cells = (3, True, BadRound, True), (4, [5], BadCells, [5])
         none = (0, HALVES, NoProgram, HALVES)
         self.refuses_in_sequence(sent, SENT, [none, house, hand, at, cells])
         self.refuses_in_sequence(later, LATER, [none, house, hand, at, cells, (5, HEARD[:2], BadHeard, HEARD[:2])])

@@ -50,7 +50,8 @@ class Form(Case):
             low, high = told.split()
             self.assertEqual(self.stands(*self.at(1, "inputs " + told)).inputs, (int(low), int(high)))
         for told in (
-            "0 21", "-20 1", "1 0", "-100 -99", "-100 -90", "90 100", "99 100", "0", "", "0 1 2", "00 1", "0 01", "+0 1",
+            "0 21", "-20 1", "1 0", "-100 -99", "-100 -90", "90 100", "99 100", "0", "", "0 1 2", "00 1", "0 01",
+            "+0 1",
             "-0 1", "0  1", "0 1 ", " 0 1", "0\t1", "0 1.0", "x 1", "0 x", "0 1_0", "0 0x5", "- 5", "--1 5", "-01 5",
             "0 1e1", "None 1", "0 9999999999999", "-99999999999 5", "0 -1", "0," + " 1", "0 " + "9" * 5000,
         ):
@@ -59,11 +60,13 @@ class Form(Case):
             self.fails(1, *self.at(1, line))
 
     def test_cells_line(self):
-        for told in ("x", "abcdef", "a1b2c3", "x a b c", "z9", "number cell x", "sums say2 puts", "l s e f", "i1nput", "e"):
+        for told in ("x", "abcdef", "a1b2c3", "x a b c", "z9", "number cell x", "sums say2 puts", "l s e f", "i1nput",
+            "e"):
             names = tuple(told.split())
             self.assertEqual(self.stands("inputs 0 1", "cells " + told, "round %s" % names[0], "say 0").names, names)
         for told in (
-            "", " ", "abcdefg", "x a b c d", "x x", "a x a", "1a", "9", "-a", "A", "aB", "a_b", "x  y", "x ", " x", "x,y",
+            "", " ", "abcdefg", "x a b c d", "x x", "a x a", "1a", "9", "-a", "A", "aB", "a_b", "x  y", "x ", " x",
+            "x,y",
             "x.y", "a-b", "x\ty", "x y z x", "E", "NAME",
         ):
             self.fails(2, *self.at(2, "cells " + told))
@@ -89,7 +92,8 @@ class Form(Case):
             self.stands(*BASE[:3], *["put y 1"] * 6, "round y", *["put x 1"] * many, "say x")
         self.fails(10, *BASE[:3], *["put y 1"] * 7, "say x")
         self.fails(12, *BASE[:3], "put y 1", "round y", *["put x 1"] * 7, "say x")
-        for told in ("", " x", " x ", " z 1", " 1 1", " x z", " least 1", " x 1 2", " x y x", "  x 1", " x  1", " me 1", " x put"):
+        for told in ("", " x", " x ", " z 1", " 1 1", " x z", " least 1", " x 1 2", " x y x", "  x 1", " x  1",
+            " me 1", " x put"):
             self.fails(4, *self.at(4, "put" + told))
         self.fails(4, *self.at(4, "Put x 1"))
         self.fails(4, *self.at(4, "puts x 1"))
@@ -150,14 +154,17 @@ class Form(Case):
         for word in ("-99", "99", "0", "-1", "x", "y", "me", "hands", "stops"):
             for number, line in ((3, "round "), (4, "put x "), (5, "say ")):
                 self.stands(*self.at(number, line + word))
-        for word in ("-100", "100", "-0", "00", "007", "+1", "1.0", "z", "X", "number", "cell", "number 5", "cell 0", "inputs",
-                     "cells", "round", "put", "say", "E", "-", "--1", "1-", "x,", "xy", "None", "9" * 5000, "1000000000"):
+        for word in (
+            "-100", "100", "-0", "00", "007", "+1", "1.0", "z", "X", "number", "cell", "number 5", "cell 0", "inputs",
+            "cells", "round", "put", "say", "E", "-", "--1", "1-", "x,", "xy", "None", "9" * 5000, "1000000000",
+        ):
             for number, line in ((3, "round "), (4, "put x "), (5, "say ")):
                 self.fails(number, *self.at(number, line + word))
 
     def test_depth(self):
         halves = "half " * 11
-        for told in (halves + "x", "plus 1 " + "turn " * 10 + "x", "plus " + "turn " * 10 + "x 1", "pick 1 2 " + halves[5:] + "x"):
+        for told in (halves + "x", "plus 1 " + "turn " * 10 + "x", "plus " + "turn " * 10 + "x 1",
+            "pick 1 2 " + halves[5:] + "x"):
             for number, line in ((3, "round "), (4, "put x "), (5, "say ")):
                 self.stands(*self.at(number, line + told))
                 self.fails(number, *self.at(number, line + "turn " + told))
@@ -185,13 +192,15 @@ class Form(Case):
             self.assertEqual(program.rounds, text.count("round "))
             lines = text.split("\n")
             number = chance.randrange(len(lines))
-            self.refuses(BadProgram, number + 1, Program, "\n".join(lines[:number] + [lines[number] + " 7 7"] + lines[number + 1:]))
+            self.refuses(BadProgram, number + 1, Program,
+                "\n".join(lines[:number] + [lines[number] + " 7 7"] + lines[number + 1:]))
 
     def test_equality(self):
         program = Program(HALVES)
         self.assertTrue(program == Program(HALVES))
         self.assertFalse(program != Program(HALVES))
-        for other in (Program(HALVES.replace("say x", "say 0")), HALVES, None, 2, (HALVES,), Spread(2, (1, 1, 1), (), 0, 1)):
+        for other in (Program(HALVES.replace("say x", "say 0")), HALVES, None, 2, (HALVES,),
+            Spread(2, (1, 1, 1), (), 0, 1)):
             self.assertFalse(program == other)
             self.assertTrue(program != other)
             self.assertFalse(other == program)
@@ -223,7 +232,8 @@ class Told(Case):
         rounds = [value for value in odd_values() if value != ()] + [
             3, ("x", ()), [("x", ())], (("x", []),), (["x", ()],), (("x",),), (("x", (), ()),), ((1, ()),),
             (("x", ("x", "1")),), (("x", (("x",),)),), (("x", (("x", 1),)),), (("x", ((1, "x"),)),),
-            (("x", (("x", "1", "2"),)),), (("x", (["x", "1"],)),), ((None, ()),), ("xy",), (("x", "ab"),), (("x", ("ab",)),),
+            (("x", (("x", "1", "2"),)),), (("x", (["x", "1"],)),), ((None, ()),), ("xy",), (("x", "ab"),),
+            (("x", ("ab",)),),
         ]
         says = [value for value in odd_values() if not isinstance(value, str)] + [3, ("x",), b"x"]
         for at, values in enumerate((pairs, cells, rounds, says)):

@@ -101,7 +101,8 @@ class Words(Case):
     def test_plus(self):
         for one, two, told in (
             (3, 4, 7), (-3, 4, 1), (9999, 0, 9999), (9998, 1, 9999), (9999, 1, 9999), (9999, 9999, 9999),
-            (-9999, 0, -9999), (-9998, -1, -9999), (-9999, -1, -9999), (-9999, -9999, -9999), (-9999, 9999, 0), (5000, 5000, 9999),
+            (-9999, 0, -9999), (-9998, -1, -9999), (-9999, -1, -9999), (-9999, -9999, -9999), (-9999, 9999, 0),
+            (5000, 5000, 9999),
         ):
             self.assertEqual(self.sends("plus x y", cells=(one, two)), told)
         self.assertEqual(self.sends("plus plus x y turn 9", cells=(9999, 9)), 9990)
@@ -127,7 +128,8 @@ class Words(Case):
     def test_sum(self):
         self.assertEqual(self.put("sum"), 7)
         for values, told in (
-            ((9999, 0, 0), 9999), ((9999, 1, 0), 9999), ((9999, 9999, -9999), 9999), ((9999, -1, 0), 9998), ((9998, 1, 0), 9999),
+            ((9999, 0, 0), 9999), ((9999, 1, 0), 9999), ((9999, 9999, -9999), 9999), ((9999, -1, 0), 9998),
+            ((9998, 1, 0), 9999),
             ((-9999, 0, 0), -9999), ((-9999, 0, -1), -9999), ((-9999, -9999, 9999), -9999), ((-9998, -1, 0), -9999),
             ((9999, 9999, -9998), 9999), ((9999, 5, -10), 9994), ((-9999, -5, 10), -9994),
         ):
@@ -135,11 +137,13 @@ class Words(Case):
 
     def test_most(self):
         self.assertEqual(self.put("most"), 5)
-        for values, told in (((1, 2, 3, 4), 1), ((4, 3, 2, 1), 1), ((2, 2, 1, 3), 2), ((9, 1, 9, 1), 1), ((1, 9, 9, 9), 9), ((-1, 0, 0, -1), -1)):
+        for values, told in (((1, 2, 3, 4), 1), ((4, 3, 2, 1), 1), ((2, 2, 1, 3), 2), ((9, 1, 9, 1), 1),
+            ((1, 9, 9, 9), 9), ((-1, 0, 0, -1), -1)):
             self.assertEqual(self.put("most", (4, 0), 0, tuple(enumerate(values))), told)
 
     def test_count(self):
-        for told, many in (("count 5", 2), ("count -3", 1), ("count 4", 0), ("count x", 0), ("count least", 1), ("count greatest", 2)):
+        for told, many in (("count 5", 2), ("count -3", 1), ("count 4", 0), ("count x", 0), ("count least", 1),
+            ("count greatest", 2)):
             self.assertEqual(self.put(told), many)
 
     def test_rank(self):
@@ -157,7 +161,8 @@ class Words(Case):
         self.assertEqual(self.put("heard 1 1", (2, 0), 0, ((0, 4), (1, 0))), 0)
 
     def test_words_that_stand_anywhere_stand_in_put(self):
-        for told, value in (("me", 3), ("hands", 4), ("stops", 1), ("plus x 1", 7), ("less x 1", 0), ("half x", 3), ("pick x 1 2", 2)):
+        for told, value in (("me", 3), ("hands", 4), ("stops", 1), ("plus x 1", 7), ("less x 1", 0), ("half x", 3),
+            ("pick x 1 2", 2)):
             self.assertEqual(self.put(told, hand=3, cells=(6, 0)), value)
 
     def test_one_hand(self):
