@@ -1,6 +1,7 @@
 """One letter, spread so that liars can't have it unlike (section 6)."""
 
-from liarslate.errors import BadCounts, BadHand, BadKind, BadLiar, BadLiars, BadNumber, BadStops, BadValue, NoSlip
+from liarslate.errors import BadCounts, BadHand, BadKind, BadLiar, BadLiars, BadNumber, BadStops, BadValue
+from liarslate.posts import Post
 from liarslate.terms import check_hand, is_from, is_hand, is_hands, is_integer
 
 FEWEST_SPREAD = 2
@@ -29,11 +30,16 @@ def check_number(n):
         raise BadNumber(n)
 
 
+def check_counts(counts):
+    """Refuses what are no COUNTS."""
+    if not is_counts(counts):
+        raise BadCounts(counts)
+
+
 def check_spread(n, counts, liars, first, value):
     """Refuses what no Spread can be made of."""
     check_number(n)
-    if not is_counts(counts):
-        raise BadCounts(counts)
+    check_counts(counts)
     if not is_hands(liars, n) or len(liars) == n:
         raise BadLiars(liars)
     check_hand(first, n)
@@ -103,8 +109,7 @@ class Spread:
         self.first = first
         self._value = value
         self._ears = [Ear(hand, counts, first) for hand in range(n)]
-        self._slips = {}
-        self._put_ever = 0
+        self._post = Post()
         self._log = []
         if first not in liars:
             self._put_to_all(first, "said", value)
@@ -127,7 +132,8 @@ class Spread:
     @property
     def under_way(self):
         """The ascending tuple of (number, from, to, kind, value)."""
-        return tuple([(number, *self._slips[number]) for number in sorted(self._slips)])
+        slips = self._post.slips
+        return tuple([(number, *slips[number]) for number in sorted(slips)])
 
     @property
     def echoes(self):
@@ -152,16 +158,10 @@ class Spread:
     def _is_honest(self, hand):
         return is_hand(hand, self.n) and hand not in self.liars
 
-    def _put(self, sender, to, kind, value):
-        number = self._put_ever
-        self._slips[number] = (sender, to, kind, value)
-        self._put_ever += 1
-        return number
-
     def _put_to_all(self, sender, kind, value):
         for to in range(self.n):
             if to != sender and to not in self.liars:
-                self._put(sender, to, kind, value)
+                self._post.put((sender, to, kind, value))
 
     def _hear(self, hand, sender, kind, value):
         for due_kind, due_value in self._ears[hand].hear(kind, sender, value):
@@ -169,9 +169,7 @@ class Spread:
 
     def deliver(self, number):
         """The slip with this number is heard."""
-        if not is_integer(number) or number not in self._slips:
-            raise NoSlip(number)
-        sender, to, kind, value = self._slips.pop(number)
+        sender, to, kind, value = self._post.pull(number)
         self._log.append(("deliver", number))
         self._hear(to, sender, kind, value)
 
@@ -186,13 +184,13 @@ class Spread:
         if not is_spread(value):
             raise BadValue(value)
         self._log.append(("lie", liar, to, kind, value))
-        return self._put(liar, to, kind, value)
+        return self._post.put((liar, to, kind, value))
 
     def rest(self):
         """Delivers slips, the least number first, until none is under way: how many."""
         many = 0
-        while self._slips:
-            self.deliver(min(list(self._slips)))
+        while self._post.slips:
+            self.deliver(self._post.least())
             many += 1
         return many
 

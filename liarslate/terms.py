@@ -68,3 +68,13 @@ def is_lot(value, house):
     """Whether value is a LOT of a HOUSE."""
     n, t = house
     return is_hands(value, n) and len(value) == n - t
+
+
+def is_letter(value, n, rounds):
+    """Whether value has the shape of a LETTER, of n hands and so many rounds."""
+    if not isinstance(value, tuple) or len(value) != 4:
+        return False
+    hand, at, number, claim = value
+    if not is_hand(hand, n) or not is_from(at, 1, rounds) or not is_value(number):
+        return False
+    return is_value(claim) or is_hands(claim, n)

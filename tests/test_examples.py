@@ -16,7 +16,7 @@ class Examples(unittest.TestCase):
     def test_readme(self):
         name = os.path.join(os.path.dirname(HERE), "README.md")
         failed, attempted = doctest.testfile(name, module_relative=False)
-        self.assertEqual((failed, attempted), (0, 13))
+        self.assertEqual((failed, attempted), (0, 22))
 
     def test_section_4(self):
         self.holds(4, 10)
@@ -26,6 +26,18 @@ class Examples(unittest.TestCase):
 
     def test_section_6(self):
         self.holds(6, 11)
+
+    def test_section_7(self):
+        self.holds(7, 8)
+
+    def test_section_8(self):
+        self.holds(8, 15)
+
+    def test_section_9(self):
+        self.holds(9, 16)
+
+    def test_section_10(self):
+        self.holds(10, 14)
 
 
 if __name__ == "__main__":

@@ -4,6 +4,10 @@ import importlib
 import inspect
 import unittest
 
+from liarslate.nets import Net
+from liarslate.spreading import Spread
+from liarslate.texts import Program
+
 FUNCTIONS = {
     "texts": {
         "program_of": "inputs cells rounds say",
@@ -30,6 +34,42 @@ FUNCTIONS = {
         "begins": "program house calm hand value",
     },
     "spreading": {"usual": "n t"},
+    "counts": {
+        "breaks": "n t counts sentence",
+        "shows_breaks": "n t counts sentence value",
+        "played": "n counts talk",
+        "broken": "n counts talk",
+        "why": "n t counts",
+        "fine_counts": "n t",
+        "bears": "n counts",
+        "fewest": "t",
+    },
+    "nets": {"replayed": "program house inputs liars log", "back": "net many"},
+    "told": {
+        "told": "net hand",
+        "told_all": "net",
+        "told_at": "net hand many",
+        "shared": "net",
+        "least_told": "net hand letter",
+        "paper": "net hand letter",
+        "story": "net hand",
+        "differs": "net one other",
+        "slowness": "net",
+        "is_story": "program house value",
+        "calm_of": "program house story",
+    },
+    "waiting": {
+        "stand": "net hand other at",
+        "waits": "net hand",
+        "chain": "net hand",
+        "shows_chain": "net hand value",
+        "over": "net",
+        "to_rest": "net",
+        "slips_about": "net hand at",
+        "all_slips": "house rounds",
+        "first_used": "net letter",
+        "late": "net",
+    },
 }
 CLASSES = {
     ("texts", "Program"): {"__init__": "self text", "__eq__": "self other"},
@@ -43,6 +83,26 @@ CLASSES = {
         "heard": "self hand",
         "copy": "self",
     },
+    ("nets", "Net"): {
+        "__init__": "self program house inputs liars",
+        "__eq__": "self other",
+        "__len__": "self",
+        "deliver": "self number",
+        "lie": "self liar to slip",
+        "rest": "self",
+        "taken": "self hand",
+        "used": "self hand",
+        "lots": "self hand",
+        "cells": "self hand",
+        "at_round": "self hand",
+        "heard": "self hand other at",
+        "copy": "self",
+    },
+}
+PROPERTIES = {
+    ("texts", "Program"): "text rounds inputs names",
+    ("spreading", "Spread"): "n counts liars first under_way echoes promises takings log",
+    ("nets", "Net"): "program house inputs liars under_way says sent log",
 }
 
 
@@ -70,6 +130,18 @@ class Interface(unittest.TestCase):
             for method, told in methods.items():
                 self.assertIn(method, vars(kind))
                 self.assertEqual(parameters(vars(kind)[method]), told, (name, method))
+
+    def test_properties(self):
+        program = Program("inputs 0 9\ncells x\nround x\nsay x")
+        made = {
+            "Program": program,
+            "Spread": Spread(4, (3, 2, 3), (3,), 0, 5),
+            "Net": Net(program, (4, 1), (1, 2, 3, None), (3,)),
+        }
+        for (_, name), told in PROPERTIES.items():
+            for word in told.split():
+                self.assertTrue(hasattr(made[name], word), (name, word))
+                self.assertFalse(callable(getattr(made[name], word)), (name, word))
 
 
 if __name__ == "__main__":

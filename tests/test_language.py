@@ -113,6 +113,32 @@ class Language(unittest.TestCase):
                 if node.name.startswith("__"):
                     self.assertIn(node.name, METHODS, name)
 
+    def test_no_name_is_a_method_and_an_attribute(self):
+        methods, properties, attributes = set(), set(), set()
+        for _, tree in trees():
+            for node in ast.walk(tree):
+                if isinstance(node, ast.ClassDef):
+                    for one in functions(node):
+                        (properties if one.decorator_list else methods).add(one.name)
+                if isinstance(node, ast.Attribute) and isinstance(node.ctx, ast.Store):
+                    attributes.add(node.attr)
+        self.assertEqual((methods & attributes, properties & attributes, methods & properties), (set(),) * 3)
+
+    def test_what_is_imported_is_defined_in_that_file_and_used(self):
+        defined = {}
+        for name, tree in trees():
+            told = [node.name for node in tree.body if isinstance(node, (ast.FunctionDef, ast.ClassDef))]
+            told += [one.id for node in tree.body if isinstance(node, ast.Assign) for one in node.targets]
+            self.assertEqual(len(set(told)), len(told), name)
+            defined["liarslate." + name[:-3]] = told
+        for name, tree in trees():
+            for node in tree.body:
+                if isinstance(node, ast.ImportFrom):
+                    for alias in node.names:
+                        self.assertIn(alias.name, defined.get(node.module, LIBRARY.get(node.module)), name)
+                        used = [one.id for one in ast.walk(tree) if isinstance(one, ast.Name)]
+                        self.assertIn(alias.name, used, name)
+
     def test_no_refused_forms(self):
         for name, tree in trees():
             for node in ast.walk(tree):
