@@ -82,20 +82,35 @@ class Ear:
 
         Each of the three can only make a later one due, never an earlier one: so going through them once is enough.
         """
-        e, r, d = self.counts
-        sends = []
-        if self.told is not None and self.echoed is None:
-            self.echoed = self.told
-            self.echo_from[self.hand] = self.told
-            sends.append(("echo", self.told))
-        enough = votes(self.echo_from, value) >= e or votes(self.promise_from, value) >= r
-        if enough and self.promised is None:
-            self.promised = value
-            self.promise_from[self.hand] = value
-            sends.append(("promise", value))
-        if votes(self.promise_from, value) >= d and self.took is None:
-            self.took = value
+        sends = self.due_echo()
+        sends.extend(self.due_promise(value))
+        self.do_due_take(value)
         return sends
+
+    def due_echo(self):
+        """Echoes what the first one said, if it has echoed nothing: what it sends."""
+        if self.told is None or self.echoed is not None:
+            return []
+        self.echoed = self.told
+        self.echo_from[self.hand] = self.told
+        return [("echo", self.told)]
+
+    def due_promise(self, value):
+        """Promises the value, if enough hands echoed or promised it: what it sends."""
+        e, r, _ = self.counts
+        enough = votes(self.echo_from, value) >= e or votes(self.promise_from, value) >= r
+        return self.promise(value) if enough and self.promised is None else []
+
+    def promise(self, value):
+        """Promises the value: what it sends."""
+        self.promised = value
+        self.promise_from[self.hand] = value
+        return [("promise", value)]
+
+    def do_due_take(self, value):
+        """Takes the value, if enough hands promised it."""
+        if votes(self.promise_from, value) >= self.counts[2] and self.took is None:
+            self.took = value
 
 
 class Spread:

@@ -1,9 +1,9 @@
 """Told runs: the calm run that honest hands' letters tell, and stories of it (section 9)."""
 
 from liarslate.calm import check_world, least, with_entry
+from liarslate.crowds import honest_hands
 from liarslate.errors import BadMany, BadStory, NotUsed
 from liarslate.machines import Shelf
-from liarslate.nets import honest_hands
 from liarslate.terms import is_from, is_hands, is_letter, is_pair
 
 

@@ -1,7 +1,7 @@
 """What honest hands wait for, and what came of it when (section 10)."""
 
+from liarslate.crowds import check_honest, honest_hands
 from liarslate.errors import BadLetter, BadRound, NotWaiting
-from liarslate.nets import check_honest, honest_hands
 from liarslate.terms import check_hand, check_house, is_from, is_hand, is_letter, is_lot, is_pair
 from liarslate.texts import check_round, MOST_ROUNDS
 

@@ -4,7 +4,9 @@ import random
 import unittest
 
 from liarslate.errors import BadHouse, SlateError
+from liarslate.layers import Loose
 from liarslate.nets import Net
+from liarslate.sealing import Sealed
 from liarslate.spreading import Spread
 from liarslate.texts import Program
 
@@ -24,7 +26,8 @@ def odd_values():
     return [
         None, True, False, "", "0", "said", (), (0,), ((0, 1),), [], [0], [4, 1], {}, {0: 1}, ([],), ({},),
         ((True,),), deep(()), deep(1), deep([]), Program(HALVES), Spread(2, (1, 1, 1), (), 0, 1), BadHouse(1),
-        Net(Program(HALVES), (1, 0), (1,), ()),
+        Net(Program(HALVES), (1, 0), (1,), ()), Loose(Program(HALVES), (1, 0), (1,), (), "claims"),
+        Sealed(2, 1, (), 0, 1),
     ]
 
 

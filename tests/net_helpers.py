@@ -1,6 +1,6 @@
 """What the tests of nets share: a model of a net made from the words of section 8, and nets led by chance."""
 
-from liarslate.calm import begins, hears, letter_of, options
+from liarslate.calm import begins, hears, is_calm, letter_of, options
 from liarslate.nets import Net
 from liarslate.spreading import usual
 from liarslate.texts import begun, input_values, later, Program, said, sent
@@ -197,6 +197,9 @@ def random_start(chance, house=None, rounds=None, many=None, plain=False):
 def fitting_letter(chance, net, liar):
     """A letter by which this liar would go on in the told run: others will use it if they take it."""
     calm = told_all(net)
+    if not is_calm(net.program, net.house, calm):
+        # Only where claims are not looked at.
+        return random_letter(chance, net)
     if calm[liar] is None:
         calm = begins(net.program, net.house, calm, liar, chance.choice(input_values(net.program)))
     elif options(net.program, net.house, calm, liar):

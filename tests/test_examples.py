@@ -16,7 +16,7 @@ class Examples(unittest.TestCase):
     def test_readme(self):
         name = os.path.join(os.path.dirname(HERE), "README.md")
         failed, attempted = doctest.testfile(name, module_relative=False)
-        self.assertEqual((failed, attempted), (0, 22))
+        self.assertEqual((failed, attempted), (0, 29))
 
     def test_section_4(self):
         self.holds(4, 10)
@@ -38,6 +38,18 @@ class Examples(unittest.TestCase):
 
     def test_section_10(self):
         self.holds(10, 14)
+
+    def test_section_11(self):
+        self.holds(11, 17)
+
+    def test_section_12(self):
+        self.holds(12, 11)
+
+    def test_section_13(self):
+        self.holds(13, 9)
+
+    def test_section_14(self):
+        self.holds(14, 17)
 
 
 if __name__ == "__main__":

@@ -4,7 +4,9 @@ import importlib
 import inspect
 import unittest
 
+from liarslate.layers import Loose
 from liarslate.nets import Net
+from liarslate.sealing import Sealed
 from liarslate.spreading import Spread
 from liarslate.texts import Program
 
@@ -70,6 +72,52 @@ FUNCTIONS = {
         "first_used": "net letter",
         "late": "net",
     },
+    "ends": {
+        "ends": "program house lot inputs most",
+        "spans": "program house lot inputs most",
+        "claimed": "program house lot inputs claim most",
+        "shows_claimed": "program house lot inputs claim most value",
+        "for_all": "program house claim most",
+        "shows_for_all": "program house claim most value",
+        "brought": "program house lot calm",
+        "shows_brought": "program house lot calm value",
+        "net_break": "program house claim most",
+        "shows_net_break": "program house claim most value",
+    },
+    "layers": {
+        "fallen": "loose",
+        "falls": "house layer",
+        "fall": "program house layer sentence",
+        "shows_fall": "program house layer sentence value",
+    },
+    "sealing": {
+        "sealed_breaks": "n t count sentence",
+        "shows_sealed_breaks": "n t count sentence value",
+        "sealed_played": "n count talk",
+        "sealed_broken": "n count talk",
+    },
+    "lies": {
+        "takeable": "net letter",
+        "passing": "net liar",
+        "said_to": "net liar hands letter",
+        "two_faced": "net liar one other side",
+        "backed": "net liar letter",
+        "followed": "program house calm hand",
+    },
+}
+NET_METHODS = {
+    "__eq__": "self other",
+    "__len__": "self",
+    "deliver": "self number",
+    "lie": "self liar to slip",
+    "rest": "self",
+    "taken": "self hand",
+    "used": "self hand",
+    "lots": "self hand",
+    "cells": "self hand",
+    "at_round": "self hand",
+    "heard": "self hand other at",
+    "copy": "self",
 }
 CLASSES = {
     ("texts", "Program"): {"__init__": "self text", "__eq__": "self other"},
@@ -83,19 +131,16 @@ CLASSES = {
         "heard": "self hand",
         "copy": "self",
     },
-    ("nets", "Net"): {
-        "__init__": "self program house inputs liars",
+    ("nets", "Net"): {"__init__": "self program house inputs liars", **NET_METHODS},
+    ("layers", "Loose"): {"__init__": "self program house inputs liars layer", **NET_METHODS},
+    ("sealing", "Sealed"): {
+        "__init__": "self n count liars first value",
         "__eq__": "self other",
         "__len__": "self",
         "deliver": "self number",
-        "lie": "self liar to slip",
+        "lie": "self liar to kind value",
         "rest": "self",
-        "taken": "self hand",
-        "used": "self hand",
-        "lots": "self hand",
-        "cells": "self hand",
-        "at_round": "self hand",
-        "heard": "self hand other at",
+        "heard": "self hand",
         "copy": "self",
     },
 }
@@ -103,6 +148,8 @@ PROPERTIES = {
     ("texts", "Program"): "text rounds inputs names",
     ("spreading", "Spread"): "n counts liars first under_way echoes promises takings log",
     ("nets", "Net"): "program house inputs liars under_way says sent log",
+    ("layers", "Loose"): "program house inputs liars layer under_way says sent log",
+    ("sealing", "Sealed"): "n needed liars first under_way echoes takings log",
 }
 
 
@@ -137,6 +184,8 @@ class Interface(unittest.TestCase):
             "Program": program,
             "Spread": Spread(4, (3, 2, 3), (3,), 0, 5),
             "Net": Net(program, (4, 1), (1, 2, 3, None), (3,)),
+            "Loose": Loose(program, (4, 1), (1, 2, 3, None), (3,), "claims"),
+            "Sealed": Sealed(4, 3, (3,), 0, 5),
         }
         for (_, name), told in PROPERTIES.items():
             for word in told.split():
