@@ -9,7 +9,8 @@ from liarslate.crowds import are_inputs, honest_hands
 from liarslate.errors import BadCalm, BadInputs, BadMost, BadStopLot, NoBreak, SlateError, Wide
 from liarslate.nets import replayed
 from liarslate.terms import is_from, is_hands, is_integer
-from liarslate.walks import all_inputs, breadth, one_of_each, to_power, Walk
+from liarslate.texts import all_inputs
+from liarslate.walks import breadth, one_of_each, to_power, Walk
 
 GREATEST_MOST = 200000
 ALL_HOLD = ("holds",)

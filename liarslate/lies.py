@@ -8,8 +8,8 @@ from liarslate.crowds import honest_hands
 from liarslate.errors import BadLetter, BadLiar, BadLot
 from liarslate.machines import counts_in
 from liarslate.terms import check_hand, is_integer, is_letter
+from liarslate.texts import all_inputs
 from liarslate.told import many_told, told_all
-from liarslate.walks import all_inputs
 
 
 def check_liar(net, liar):

@@ -149,6 +149,12 @@ def program_of(inputs, cells, rounds, say):
 # What others reckon with, once all that they were passed is known to be right.
 
 
+def all_inputs(program):
+    """All inputs, ascending."""
+    low, high = program.inputs
+    return tuple(range(low, high + 1))
+
+
 def first_cells(program, value):
     """The CELLS at first, with this input."""
     return (value,) + (0,) * (len(program.names) - 1)
@@ -226,8 +232,7 @@ def is_heard(house, hand, value):
 def input_values(program):
     """All inputs of the program."""
     check_program(program)
-    low, high = program.inputs
-    return tuple(range(low, high + 1))
+    return all_inputs(program)
 
 
 def begun(program, value):

@@ -6,13 +6,7 @@ A walk goes round by round, and keeps of all runs that lead to like cells only o
 from itertools import combinations
 from math import comb
 
-from liarslate.texts import cells_later, first_cells, value_said, value_sent
-
-
-def all_inputs(program):
-    """The inputs of a right program, ascending."""
-    low, high = program.inputs
-    return list(range(low, high + 1))
+from liarslate.texts import all_inputs, cells_later, first_cells, value_said, value_sent
 
 
 def one_of_each(rows):

@@ -3,6 +3,8 @@
 import random
 import unittest
 
+from liarslate.benches import Bench
+from liarslate.desk import Desk
 from liarslate.errors import BadHouse, SlateError
 from liarslate.layers import Loose
 from liarslate.nets import Net
@@ -27,7 +29,7 @@ def odd_values():
         None, True, False, "", "0", "said", (), (0,), ((0, 1),), [], [0], [4, 1], {}, {0: 1}, ([],), ({},),
         ((True,),), deep(()), deep(1), deep([]), Program(HALVES), Spread(2, (1, 1, 1), (), 0, 1), BadHouse(1),
         Net(Program(HALVES), (1, 0), (1,), ()), Loose(Program(HALVES), (1, 0), (1,), (), "claims"),
-        Sealed(2, 1, (), 0, 1),
+        Sealed(2, 1, (), 0, 1), Bench(HALVES, (1, 0), (1,), ()), Desk(HALVES + "\nhouse 1 0\ninputs 1\nliars\ndeeds"),
     ]
 
 

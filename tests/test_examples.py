@@ -16,7 +16,7 @@ class Examples(unittest.TestCase):
     def test_readme(self):
         name = os.path.join(os.path.dirname(HERE), "README.md")
         failed, attempted = doctest.testfile(name, module_relative=False)
-        self.assertEqual((failed, attempted), (0, 29))
+        self.assertEqual((failed, attempted), (0, 37))
 
     def test_section_4(self):
         self.holds(4, 10)
@@ -50,6 +50,12 @@ class Examples(unittest.TestCase):
 
     def test_section_14(self):
         self.holds(14, 17)
+
+    def test_section_15(self):
+        self.holds(15, 14)
+
+    def test_section_16(self):
+        self.holds(16, 7)
 
 
 if __name__ == "__main__":

@@ -4,6 +4,8 @@ import importlib
 import inspect
 import unittest
 
+from liarslate.benches import Bench
+from liarslate.desk import Desk
 from liarslate.layers import Loose
 from liarslate.nets import Net
 from liarslate.sealing import Sealed
@@ -104,6 +106,16 @@ FUNCTIONS = {
         "backed": "net liar letter",
         "followed": "program house calm hand",
     },
+    "records": {
+        "record": "net",
+        "is_record": "program house value",
+        "inputs_of": "program house record hand",
+        "kept": "program house record",
+        "liars_in": "program house record",
+        "explains": "program house record lot",
+        "first_lie": "program house record hand",
+    },
+    "journals": {"journal": "bench", "read_journal": "text"},
 }
 NET_METHODS = {
     "__eq__": "self other",
@@ -143,6 +155,24 @@ CLASSES = {
         "heard": "self hand",
         "copy": "self",
     },
+    ("benches", "Bench"): {
+        "__init__": "self text house inputs liars",
+        "__eq__": "self other",
+        "__len__": "self",
+        "__contains__": "self x",
+        "deliver": "self number",
+        "lie": "self liar to slip",
+        "rest": "self",
+        "fresh": "self inputs liars",
+        "rewrite": "self text",
+        "net_now": "self",
+        "undo": "self",
+        "redo": "self",
+        "block": "self",
+        "keep": "self",
+        "copy": "self",
+    },
+    ("desk", "Desk"): {"__init__": "self text", "say": "self line"},
 }
 PROPERTIES = {
     ("texts", "Program"): "text rounds inputs names",
@@ -150,6 +180,8 @@ PROPERTIES = {
     ("nets", "Net"): "program house inputs liars under_way says sent log",
     ("layers", "Loose"): "program house inputs liars layer under_way says sent log",
     ("sealing", "Sealed"): "n needed liars first under_way echoes takings log",
+    ("benches", "Bench"): "program house inputs liars deeds",
+    ("desk", "Desk"): "bench",
 }
 
 
@@ -178,6 +210,13 @@ class Interface(unittest.TestCase):
                 self.assertIn(method, vars(kind))
                 self.assertEqual(parameters(vars(kind)[method]), told, (name, method))
 
+    def test_tried(self):
+        """Its keep is passed by name alone."""
+        told = inspect.signature(vars(Bench)["tried"]).parameters
+        self.assertEqual(list(told), ["self", "look", "keep"])
+        self.assertIs(told["keep"].kind, inspect.Parameter.KEYWORD_ONLY)
+        self.assertIs(told["keep"].default, False)
+
     def test_properties(self):
         program = Program("inputs 0 9\ncells x\nround x\nsay x")
         made = {
@@ -186,6 +225,8 @@ class Interface(unittest.TestCase):
             "Net": Net(program, (4, 1), (1, 2, 3, None), (3,)),
             "Loose": Loose(program, (4, 1), (1, 2, 3, None), (3,), "claims"),
             "Sealed": Sealed(4, 3, (3,), 0, 5),
+            "Bench": Bench(program.text, (4, 1), (1, 2, 3, None), (3,)),
+            "Desk": Desk(program.text + "\nhouse 1 0\ninputs 0\nliars\ndeeds"),
         }
         for (_, name), told in PROPERTIES.items():
             for word in told.split():

@@ -15,11 +15,14 @@ LIBRARY = {
     },
     "collections": {"defaultdict", "deque"},
 }
-METHODS = {"__init__", "__eq__", "__repr__", "__str__", "__len__", "__enter__", "__exit__", "__call__", "__contains__"}
+METHODS = {
+    "__init__", "__eq__", "__repr__", "__str__", "__len__", "__enter__", "__exit__", "__call__", "__contains__",
+}
 # What L8 lets be called, and map (L23), less what a later rule takes away again.
 CALLED = set(
     "len range enumerate zip min max sum abs sorted reversed int str bool list tuple dict set isinstance ord repr any"
-    " all divmod pow map iter next super Exception ValueError TypeError KeyError IndexError LookupError RuntimeError".split()
+    " all divmod pow map iter next super Exception ValueError TypeError KeyError IndexError LookupError"
+    " RuntimeError".split()
 )
 WHOLE = ("any", "all", "min", "max", "sum", "sorted")
 # Doctests leave a builtin _ behind, which is none of Python's own.

@@ -53,7 +53,7 @@ def liars_letter(chance, net):
 
 
 def reckoned_letter(program, house, liar, at, cells_told, values):
-    """(the LETTER, its lot) of a liar which heard these values in the round ahead."""
+    """The LETTER of a liar which heard these values in the round ahead."""
     lot = tuple(sorted(values))
     heard = tuple((hand, values[hand]) for hand in lot)
     cells = later(program, house, liar, at - 1, cells_told, heard)
@@ -158,8 +158,8 @@ class Passing(Case):
             cells = later(program, house, liar, number, cells, heard)
         rows = []
         for lot in options(program, house, calm, liar):
-            rows.append(reckoned_letter(program, house, liar, at, cells, {hand: known[hand, at - 1] for hand in lot})[:3]
-                        + (lot,))
+            values = {hand: known[hand, at - 1] for hand in lot}
+            rows.append(reckoned_letter(program, house, liar, at, cells, values))
         return tuple(sorted(rows))
 
     def test_at_many_moments(self):
