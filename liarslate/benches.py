@@ -11,7 +11,6 @@ class Block:
 
     def __init__(self, bench):
         self.bench = bench
-        self.outer = None
         self.kept = None
 
     def __enter__(self):
@@ -165,9 +164,10 @@ class Bench:
 
     def keep(self):
         """What is done in the innermost block stays."""
-        if self.innermost is None:
+        block = self.innermost
+        if block is None:
             raise NoBlock(None)
-        self.innermost.kept = True
+        block.kept = True
 
     def tried(self, look, *, keep=False):
         """Calls look with the bench within a block, kept if keep is True: what it returned."""

@@ -71,11 +71,8 @@ class Chances:
     def can_promise(self, hand, promisers):
         """Whether an honest hand can be brought to promise the letter if these promise it."""
         e, r, _ = self.counts
-        if not self.is_free(hand, 1):
-            return False
-        if self.own_vote(hand, 1) is not None:
-            return True
-        return len(self.echoers) + self.lies_to(hand, 0) >= e or len(promisers) + self.lies_to(hand, 1) >= r
+        enough = len(self.echoers) + self.lies_to(hand, 0) >= e or len(promisers) + self.lies_to(hand, 1) >= r
+        return enough and self.is_free(hand, 1)
 
     def all_promisers(self):
         """The honest hands that can be brought to promise the letter, each one helping the others."""
@@ -87,27 +84,19 @@ class Chances:
         return found
 
     def can_take(self, hand):
-        """Whether an honest hand that has taken nothing can be brought to take the letter."""
+        """Whether an honest hand hears enough promises of the letter, or can be brought to."""
         return len(self.promisers) + self.lies_to(hand, 1) >= self.counts[2]
 
 
-def taken_by(net, hand, letter):
-    """The LETTER of the same hand and round that an honest hand has taken, None without."""
-    for taken in net.taken(hand):
-        if (taken[0], taken[1]) == (letter[0], letter[1]):
-            return taken
-    return None
-
-
 def takeable(net, letter):
-    """Whether an honest hand has taken a liar's letter, or can still be brought to."""
+    """Whether an honest hand has taken a liar's letter, or can still be brought to.
+
+    By the usual counts honest hands never promise unlike letters of one hand and round: so of a letter that can't be
+    taken any more, as another one was, not enough promises can come either.
+    """
     check_letter_of(net, net.liars, letter)
     chances = Chances(net, letter)
-    for hand in honest_hands(net):
-        taken = taken_by(net, hand, letter)
-        if taken == letter or taken is None and chances.can_take(hand):
-            return True
-    return False
+    return any([chances.can_take(hand) for hand in honest_hands(net)])
 
 
 def passing(net, liar):

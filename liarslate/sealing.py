@@ -203,7 +203,8 @@ class Sealed:
 
 def can_break_sealed(n, t, count, sentence):
     """Whether liars can break this sentence."""
-    forged = t >= 1 and count <= t
+    # Liars alone can make a SEAL of any value: there are some, as one echo is wanted at least.
+    forged = count <= t
     if sentence == "one":
         return t >= 1 and 2 * count <= n + t
     if sentence == "heard":

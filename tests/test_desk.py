@@ -101,6 +101,10 @@ class Answers(Case):
         self.assertEqual(Desk(lone).say("ends"), "wide")
         less = lone.replace("round x\nsay", "say").replace("inputs 0 0\n", "inputs 0 20\n", 1)
         self.assertNotEqual(Desk(less).say("ends"), "wide")
+        for greatest, wide in ((6, False), (7, True)):
+            # Breadths of 4 ** 4 * 7 and 4 ** 4 * 8.
+            heads = HEADS.replace("0 9", "0 %d" % greatest).replace("4 1", "5 1").replace("1 2 3 -", "1 2 3 - 1")
+            self.assertEqual(Desk(heads).say("ends") == "wide", wide)
         self.assertEqual(Desk(HEADS.replace("4 1", "1 0").replace("1 2 3 -", "7").replace("s 3", "s")).say("ends"), "7")
 
     def test_deeds(self):
@@ -152,7 +156,8 @@ class Refusals(Case):
             "", " ", "rest ", " rest", "Rest", "rest 1", "undo 1", "undo ", "redo 0", "says 0", "says ", "under 1",
             "steps 1", "told 0", "ends 2000", "used", "used ", "used x", "used 0 1", "used 00", "used +1", "used  0",
             "used -", "waits", "waits 0 1", "waits x", "waits 0 ", "deliver", "deliver x", "deliver 0 1", "deliver -",
-            "deliver 01", "lie 3 0 said 3 1 9 9", "lie 3 0 said 3 1 9 input", "lie 3 0 said 3 1 9 input 9 9",
+            "deliver 01", "lie 3 0 said 3 1 9", "lie 3 0 said 3 1", "lie 3 0 said", "lie 3 0", "lie 3", "lie",
+            "lie 3 0 said 3 1 9 9", "lie 3 0 said 3 1 9 input", "lie 3 0 said 3 1 9 input 9 9",
             "lie 3 0 said 3 1 9 lot x", "lie 3 0  3 1 9 input 9", "lie 3 0 3 1 9 input 9",
             "lie 3 0 said 3 1 x input 9", "fresh", "fresh 1 2 3 -", "fresh 1 2 3 x liars", "fresh 1 2 3 - liars -",
             "fresh 1 2 3 4 liars 1 liars 2", "rewrite", "deeds", "house 4 1", "inputs 1 2 3 -", "liars 3", "none",

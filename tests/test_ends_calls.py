@@ -117,6 +117,10 @@ class Refusals(Case):
             self.refuses_each(BadCalm, call, wrong, good, 3)
             self.refuses(BadCalm, CALM, call, PROGRAM, HOUSE, (), CALM, *good[4:])
             self.refuses(BadCalm, CALM, call, PROGRAM, HOUSE, (0,), CALM, *good[4:])
+        quiet = ((0, ((0, 1, 2),)),) + whole[1:] + (None,)
+        for lot in ((), (0,)):
+            self.refuses(BadCalm, quiet, brought, PROGRAM, HOUSE, lot, quiet)
+        brought(PROGRAM, HOUSE, (3,), quiet)
         for last in ((0, ()), (1, ()), (0, ((0, 1, 3),)), (1, ((1, 2, 3),))):
             brought(PROGRAM, HOUSE, (3,), whole + (last,))
         full = whole + ((1, ((0, 2, 3),)),)
@@ -182,6 +186,13 @@ class Answers(Case):
             ("breaks", ((False, ((0, 1, 3),)),) + CALM[1:]), ("breaks", CALM[:3] + (None,)),
             ("breaks", ((0, ()),) + CALM[1:]), (CALM, "breaks"), CALM,
         ])
+
+    def test_of_other_inputs(self):
+        """A CALM that breaks the claim, too, but with other inputs."""
+        other = ((1, ((0, 1, 2),)), (0, ((0, 1, 3),)), (1, ((0, 1, 2),)), (0, ()))
+        self.assertIs(shows_claimed(*CLAIMED, ("breaks", other)), False)
+        self.assertIs(shows_claimed(*CLAIMED[:3], (1, 0, 1, None), *CLAIMED[4:], ("breaks", other)), True)
+        self.assertIs(shows_for_all(*ALL, ("breaks", (3,), other)), True)
 
     def test_one_row(self):
         """True is not 1."""

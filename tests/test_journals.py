@@ -150,6 +150,7 @@ class Bent(Case):
 
     def test_the_first_form_that_is_wrong(self):
         for house, inputs, liars, number in (
+            ("house 4", "inputs x", "liars 3", 6), ("house 4 1 0", "inputs x", "liars 3", 6),
             ("house x", "inputs x", "liars x", 6), ("house 9 9", "inputs x", "liars x", 7),
             ("house 9 9", "inputs", "liars x", 8), ("house 9 9", "inputs", "liars 9", 6),
             ("house 4 1", "inputs", "liars 9", 8), ("house 4 1", "inputs", "liars 3", 7),
@@ -186,7 +187,8 @@ class Bent(Case):
             (11, "lie 3 0 shown 3 1 9 input 9"), (11, "lie 0 0 said 3 1 9 input 9"), (11, "lie 3 3 said 3 1 9 input 9"),
             (11, "lie 3 0 said 3 2 9 input 9"), (11, "lie 3 0 said 3 1 10000 input 9"),
             (11, "lie 3 0 said 4 1 9 input 9"),
-            (11, "lie 3 0  3 1 9 input 9"), (11, "lie 3 0 said - 1 9 input 9"), (11, "lie"), (11, "lie 3 0 said"),
+            (11, "lie 3 0 said 3 1 9"), (11, "lie 3 0  3 1 9 input 9"), (11, "lie 3 0 said - 1 9 input 9"),
+            (11, "lie"), (11, "lie 3 0 said"),
             (14, "rest 0"), (14, "rests"), (14, "Rest"), (15, "fresh 1 - 3 4"), (15, "fresh"), (15, "fresh liars"),
             (15, "fresh 1 - 3 4 liars 0"), (15, "fresh 1 - 3 liars 1"), (15, "fresh 1 - 3 10 liars 1"),
             (15, "fresh 1 - 3 4 liars -"), (15, "fresh 1 - 3 4 liars 1 liars 1"), (15, "fresh 1 x 3 4 liars 1"),

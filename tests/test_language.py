@@ -142,6 +142,27 @@ class Language(unittest.TestCase):
                         used = [one.id for one in ast.walk(tree) if isinstance(one, ast.Name)]
                         self.assertIn(alias.name, used, name)
 
+    def test_no_local_has_the_name_of_a_class_or_an_import(self):
+        for name, tree in trees():
+            taken = {alias.name for node in tree.body if isinstance(node, ast.ImportFrom) for alias in node.names}
+            taken |= {node.name for node in tree.body if isinstance(node, ast.ClassDef)}
+            for node in functions(tree):
+                told = {one.arg for one in ast.walk(node) if isinstance(one, ast.arg)}
+                inner = [one for one in ast.walk(node) if isinstance(one, ast.Name)]
+                told |= {one.id for one in inner if isinstance(one.ctx, ast.Store)}
+                self.assertEqual(told & taken, set(), (name, node.name))
+
+    def test_blocks_end_by_plain_rows(self):
+        """What L6 lets stand in an __exit__: assignments and tests for None."""
+        plain = (ast.Assign, ast.If, ast.Name, ast.Attribute, ast.Compare, ast.BoolOp, ast.Constant, ast.expr_context,
+                 ast.boolop, ast.cmpop)
+        for name, tree in trees():
+            for node in functions(tree):
+                if node.name == "__exit__":
+                    for row in node.body:
+                        for one in ast.walk(row):
+                            self.assertIsInstance(one, plain, (name, ast.unparse(row)))
+
     def test_no_refused_forms(self):
         for name, tree in trees():
             for node in ast.walk(tree):

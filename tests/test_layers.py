@@ -164,6 +164,7 @@ class Equality(Case):
         self.assertFalse(base != Loose(*good))
         others = [Loose(*good[:4], layer) for layer in ("promises", "echoes")] + [
             Loose(ONE, (5, 1), (0, 10, 20, None, 1), (3,), "claims"),
+            Loose(Program(ONE.text.replace("least", "most")), *good[1:]),
             Loose(TWO, (4, 1), (0, 1, 2, None), (3,), "claims"), Loose(ONE, (4, 1), (1, 10, 20, None), (3,), "claims"),
             Loose(ONE, (4, 1), (0, 10, None, 20), (2,), "claims"), Loose(ONE, (4, 0), (0, 10, 20, 0), (), "claims"),
             Net(*good[:4]), None, 5, (), "claims", [base],
@@ -172,6 +173,7 @@ class Equality(Case):
             self.assertFalse(base == other)
             self.assertTrue(base != other)
             self.assertFalse(other == base)
+        self.assertFalse(Loose(ONE, (4, 0), (1,) * 4, (), "claims") == Loose(ONE, (4, 1), (1,) * 4, (), "claims"))
 
     def test_by_logs(self):
         good = [ONE, (4, 1), (0, 10, 20, None), (3,), "echoes"]

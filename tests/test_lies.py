@@ -129,6 +129,20 @@ class Takeable(Case):
         net.deliver(net.lie(3, 0, ("echo", one)))
         self.assertEqual([takeable(net, one), takeable(net, other)], [False, False])
 
+    def test_one_promise_is_not_enough(self):
+        """Hand 0 alone can be brought to promise, by the liar's echo, and to hear the liar's promise."""
+        net = Net(GREATEST, (4, 1), (5, 2, 7, None), (3,))
+        one, other = (3, 1, 9, 9), (3, 1, 8, 8)
+        do_all(net, two_faced(net, 3, one, other, (0, 1)))
+        for kind in ("echo", "promise"):
+            for hand in (1, 2):
+                net.lie(3, hand, (kind, other))
+        net.rest()
+        self.assertIs(press(net, one), False)
+        self.assertIs(takeable(net, one), False)
+        self.assertTrue(net.deliver(net.lie(3, 0, ("echo", one))) is None and net.heard(0, 3, 1)[2])
+        self.assertIs(takeable(net, one), False)
+
     def test_lies_under_way_need_not_come_first(self):
         net = Net(GREATEST, (4, 1), (5, 2, 7, None), (3,))
         do_all(net, said_to(net, 3, (0, 1, 2), (3, 1, 9, 9)))

@@ -55,6 +55,15 @@ class Nets(Case):
         honest = Net(PROGRAM, (4, 1), (0, 4, 8, 9), ())
         self.refuses(BadLetter, LETTER, takeable, honest, LETTER)
 
+    def test_true_is_not_1(self):
+        net = Net(PROGRAM, (4, 1), (0, None, 4, 8), (1,))
+        letter = (1, 1, 0, 0)
+        for call, good in (
+            (passing, []), (said_to, [(0,), letter]), (two_faced, [letter, letter, (0,)]), (backed, [letter]),
+        ):
+            self.refuses(BadLiar, True, call, net, True, *good)
+        self.refuses(BadLetter, (True, 1, 0, 0), takeable, net, (True, 1, 0, 0))
+
     def test_another_liars_letter(self):
         net = Net(PROGRAM, (7, 2), (1, 2, 3, 4, 5, None, None), (5, 6))
         letter = (5, 1, 0, 0)

@@ -129,6 +129,12 @@ class Deeds(Case):
             self.refuses(BadLiar, liar, net.lie, liar, 1, SLIP)
         self.assertEqual((net.log, net.sent), ((), 24))
 
+    def test_true_is_not_1(self):
+        net = Net(PROGRAM, HOUSE, (0, None, 8, 9), (1,))
+        self.refuses(BadLiar, True, net.lie, True, 0, SLIP)
+        self.refuses(BadHand, False, net.lie, 1, False, SLIP)
+        self.assertEqual(len(net), 0)
+
     def test_refused_lies_put_no_number_by(self):
         twin = self.net.copy()
         self.refuses(BadSlip, None, twin.lie, 3, 1, None)

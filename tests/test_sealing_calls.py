@@ -108,6 +108,11 @@ class Deeds(Case):
         self.assertEqual(twin.takings, (None, None, 5, None))
         self.refuses(BadHand, 3, twin.lie, 3, 3, "shown", (6, (0, 1, 3)))
 
+    def test_true_is_not_1(self):
+        sealed = Sealed(4, 2, (1,), 0, 5)
+        self.refuses(BadLiar, True, sealed.lie, True, 0, "echo", 5)
+        self.assertEqual((len(sealed), len(sealed.under_way)), (0, 4))
+
     def test_an_echo_that_comes_later_is_enough_then(self):
         twin = self.sealed.copy()
         self.refuses(BadSeal, (5, (1, 2, 3)), twin.lie, 3, 0, "shown", (5, (1, 2, 3)))
@@ -121,6 +126,8 @@ class Deeds(Case):
         for value in (0, 5, 99):
             two.lie(2, 1, "shown", (value, (2, 3)))
         self.refuses(BadSeal, (6, (0, 3)), two.lie, 2, 1, "shown", (6, (0, 3)))
+        for value in odd_values() + [100, -1]:
+            self.refuses(BadSeal, (value, (2, 3)), two.lie, 2, 1, "shown", (value, (2, 3)))
         two.lie(2, 1, "shown", (5, (0, 3)))
         huge = Sealed(3, 4, (2,), 0, 5)
         for hands in ((0, 1, 2), (0, 1, 2, 3), (0, 1, 2, 2)):
