@@ -37,12 +37,12 @@ def bring_to_take(loose, hand, kind, letter):
         loose.deliver(loose.lie(liar, hand, (kind, letter)))
 
 
-def lead_claims(loose, sentence):
+def lead_claims(loose):
     """All hear a letter that no input tells the liar to send."""
     tell(loose, honest_hands(loose), wrong_letter(loose, 0))
 
 
-def lead_promises(loose, sentence):
+def lead_promises(loose):
     """The first hand alone hears enough echoes of a letter to take it, and its own next letter leans on it."""
     honest = honest_hands(loose)
     letter = right_letter(loose)
@@ -70,8 +70,8 @@ def lead_echoes(loose, sentence):
 def lead_to_fall(loose, sentence):
     """Brings a sentence that can fall to do so."""
     if loose.layer == CLAIMS_OFF:
-        lead_claims(loose, sentence)
+        lead_claims(loose)
     elif loose.layer == PROMISES_OFF:
-        lead_promises(loose, sentence)
+        lead_promises(loose)
     else:
         lead_echoes(loose, sentence)

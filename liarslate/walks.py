@@ -39,6 +39,14 @@ def longer(run, lots):
     ])
 
 
+def put_runs(found, run, ways):
+    """Puts to found, for each choice of ways of all hands, where it leads, and the run that goes there."""
+    for row in one_of_each(ways):
+        place = tuple([way[0] for way in row])
+        if place not in found:
+            found[place] = longer(run, [way[1] for way in row])
+
+
 class Walk:
     """Walks for one program and house. States are runs by the cells of all hands to which they lead."""
 
@@ -89,15 +97,8 @@ class Walk:
         for cells, run in states.items():
             pairs = self.pairs_sent(at, cells)
             ways = [list(self.ways_on(hand, at, one, pairs).items()) for hand, one in enumerate(cells)]
-            self.put_runs(found, run, ways)
+            put_runs(found, run, ways)
         return found
-
-    def put_runs(self, found, run, ways):
-        """Puts to found, for each choice of ways of all hands, where it leads, and the run that goes there."""
-        for row in one_of_each(ways):
-            place = tuple([way[0] for way in row])
-            if place not in found:
-                found[place] = longer(run, [way[1] for way in row])
 
     def rows(self, lot, inputs):
         """The rows of ends for this stop lot and these inputs, and one run for each."""
@@ -111,5 +112,5 @@ class Walk:
                 [(None, None)] if hand in lot else list(self.ways_out(hand, one, pairs).items())
                 for hand, one in enumerate(cells)
             ]
-            self.put_runs(found, run, ways)
+            put_runs(found, run, ways)
         return found
